@@ -1,0 +1,1 @@
+"""Lastkind: memory that takes the kind of the last write."""

@@ -1,0 +1,121 @@
+"""What the rules of the language ask of each file of the package, as far as it is quickly checked."""
+
+import ast
+import builtins
+import pathlib
+import unittest
+import warnings
+
+PACKAGE = pathlib.Path(__file__).resolve().parent.parent / "lastkind"
+SOURCES = {path.stem: path.read_bytes().decode("ascii") for path in sorted(PACKAGE.glob("*.py"))}
+TREES = {name: ast.parse(source) for name, source in SOURCES.items()}
+FUNCTIONS = (ast.FunctionDef, ast.Lambda)
+
+# Each file of the interface that has landed, with its functions and the methods of its classes.
+INTERFACE = {
+    "errors": {"KindError": [], "BadText": [], "BadNote": [], "NoLaying": [], "NoOrder": [],
+               "Turned": [], "BadLoop": [], "BadCommand": [], "NothingDone": [], "NoStep": []},
+    "words": {"is_name": [], "is_kind": [], "size_of": []},
+    "steps": {"is_step": []},
+    "texts": {"Text": ["__init__", "__len__", "__getitem__", "__eq__", "__contains__", "with_step",
+                       "names", "read"]},
+    "notes": {"read_text": []},
+}
+
+
+def nodes():
+    for name, tree in TREES.items():
+        for node in ast.walk(tree):
+            yield name, node
+
+
+def imports_of(name):
+    return [node for node in ast.walk(TREES[name]) if isinstance(node, (ast.Import, ast.ImportFrom))]
+
+
+class Files(unittest.TestCase):
+    def test_the_folder_contains_only_the_files(self):
+        found = [path for path in PACKAGE.rglob("*") if "__pycache__" not in path.parts]
+        self.assertEqual(sorted(found), sorted(PACKAGE / f"{name}.py" for name in SOURCES))
+
+    def test_characters_and_sizes(self):
+        for name, source in SOURCES.items():
+            lines = source.split("\n")
+            self.assertLess(len(lines), 400, name)
+            for line in lines:
+                self.assertLessEqual(len(line), 120, (name, line))
+                self.assertTrue(all(" " <= sign <= "~" for sign in line), (name, line))
+
+    def test_functions_are_short(self):
+        for name, node in nodes():
+            if isinstance(node, FUNCTIONS):
+                self.assertLessEqual(node.end_lineno - node.lineno + 1, 40, (name, node.lineno))
+
+    def test_python_warns_of_nothing(self):
+        with warnings.catch_warnings():
+            warnings.simplefilter("error")
+            for name, source in SOURCES.items():
+                compile(source, name, "exec")
+
+
+class Imports(unittest.TestCase):
+    def test_each_import_names_the_file_that_defines_the_name(self):
+        for name in SOURCES:
+            for node in imports_of(name):
+                self.assertIsInstance(node, ast.ImportFrom, name)
+                folder, _, file = node.module.partition(".")
+                self.assertEqual(folder, "lastkind", name)
+                defined = [row.name for row in TREES[file].body if hasattr(row, "name")]
+                defined += [row.targets[0].id for row in TREES[file].body if isinstance(row, ast.Assign)]
+                for alias in node.names:
+                    self.assertIn(alias.name, defined)
+
+    def test_no_two_files_import_from_each_other(self):
+        left = {name: [node.module.partition(".")[2] for node in imports_of(name)] for name in SOURCES}
+        while left:
+            free = [name for name in left if not any(other in left for other in left[name])]
+            self.assertTrue(free, left)
+            for name in free:
+                del left[name]
+
+
+class Words(unittest.TestCase):
+    def test_no_function_and_no_variable_has_the_name_of_a_builtin(self):
+        for name, node in nodes():
+            if isinstance(node, ast.Name) and isinstance(node.ctx, ast.Store):
+                self.assertNotIn(node.id, dir(builtins), name)
+            if isinstance(node, ast.arg):
+                self.assertNotIn(node.arg, dir(builtins), name)
+
+    def test_strings_contain_no_percent_sign(self):
+        for name, node in nodes():
+            if isinstance(node, ast.Constant) and isinstance(node.value, str):
+                self.assertNotIn("%", node.value, name)
+
+    def test_any_and_all_and_the_like_take_lists(self):
+        for name, node in nodes():
+            if isinstance(node, ast.Call) and isinstance(node.func, ast.Name):
+                if node.func.id in ("any", "all", "min", "max", "sum", "sorted"):
+                    for given in node.args:
+                        self.assertNotIsInstance(given, ast.GeneratorExp, (name, node.lineno))
+
+    def test_no_division_and_no_float(self):
+        for name, node in nodes():
+            self.assertNotIsInstance(node, ast.Div, name)
+            if isinstance(node, ast.Constant):
+                self.assertNotIsInstance(node.value, (float, complex), name)
+
+
+class Interface(unittest.TestCase):
+    def test_each_name_is_defined_in_its_file(self):
+        for file, wanted in INTERFACE.items():
+            rows = {row.name: row for row in TREES[file].body if hasattr(row, "name")}
+            for name, methods in wanted.items():
+                self.assertIn(name, rows)
+                own = [row.name for row in rows[name].body if isinstance(row, ast.FunctionDef)]
+                for method in methods:
+                    self.assertIn(method, own)
+
+
+if __name__ == "__main__":
+    unittest.main()
