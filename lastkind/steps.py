@@ -66,6 +66,13 @@ def spans_of(step):
     return []
 
 
+def kind_of(step):
+    """The kind of what a read or a write is about; None for the other steps."""
+    if step[0] == "read":
+        return step[2]
+    return step[1] if step[0] == "write" else None
+
+
 def value_name(step):
     """The name of the value that a write or a tell uses; None if it uses none."""
     if step[0] in ("write", "tell") and isinstance(step[-1], str):

@@ -19,8 +19,20 @@ INTERFACE = {
     "steps": {"is_step": []},
     "texts": {"Text": ["__init__", "__len__", "__getitem__", "__eq__", "__contains__", "with_step",
                        "names", "read"]},
-    "notes": {"read_text": []},
+    "notes": {"read_text": [], "write_text": []},
+    "layings": {"layings": [], "is_laying": []},
+    "runs": {"Run": ["__init__", "lawful", "at", "reason", "found", "told", "end"]},
+    "finds": {"finds": []},
 }
+
+# What the package takes of Python: its functions and errors, and the methods of its values.
+BUILTINS = """len range enumerate zip min max sum abs sorted reversed int str bool list tuple dict set isinstance ord
+    any all divmod property classmethod ValueError TypeError IndexError""".split()
+METHODS = """append clear copy count endswith extend find get index insert isdigit items join keys partition pop
+    remove replace reverse setdefault split startswith strip update values""".split()
+BARRED = """register mro elements open input law version_info with_traceback add_note attrgetter builtins compile
+    copyright credits delattr dir eval exec exit gc globals help id importlib license locals methodcaller os quit
+    super type vars sys map format""".split()
 
 
 def nodes():
@@ -87,6 +99,36 @@ class Words(unittest.TestCase):
             if isinstance(node, ast.arg):
                 self.assertNotIn(node.arg, dir(builtins), name)
 
+    def test_only_known_functions_and_methods_of_python_are_used(self):
+        own = {node.name for _, node in nodes() if isinstance(node, (ast.FunctionDef, ast.ClassDef))}
+        for name, node in nodes():
+            if isinstance(node, ast.Name) and node.id in dir(builtins):
+                self.assertIn(node.id, BUILTINS, (name, node.lineno))
+            if isinstance(node, ast.Call) and isinstance(node.func, ast.Attribute):
+                self.assertIn(node.func.attr, own | set(METHODS), (name, node.lineno))
+
+    def test_names_that_are_not_used(self):
+        for name, node in nodes():
+            for told in [getattr(node, part, None) for part in ("id", "arg", "attr", "name")]:
+                self.assertNotIn(told, BARRED, name)
+                if isinstance(told, str) and not (told.startswith("__") and told.endswith("__")):
+                    self.assertNotRegex(told, "^(__|_wall|_pe_|_dcw_|_enum_|_cm_|_lay_|_law_|_stub_)", name)
+
+    def test_no_variable_has_the_name_of_an_import_or_a_class_of_its_file(self):
+        for name, tree in TREES.items():
+            taken = [alias.name for node in imports_of(name) for alias in node.names]
+            taken += [node.name for node in tree.body if isinstance(node, ast.ClassDef)]
+            for node in ast.walk(tree):
+                if isinstance(node, ast.Name) and isinstance(node.ctx, ast.Store):
+                    self.assertNotIn(node.id, taken, (name, node.lineno))
+                if isinstance(node, ast.arg):
+                    self.assertNotIn(node.arg, taken, (name, node.lineno))
+
+    def test_no_generators_and_no_floating_or_global_names(self):
+        barred = (ast.Yield, ast.YieldFrom, ast.GeneratorExp, ast.Global, ast.AsyncFunctionDef, ast.Await, ast.Set)
+        for name, node in nodes():
+            self.assertNotIsInstance(node, barred, (name, getattr(node, "lineno", 0)))
+
     def test_strings_contain_no_percent_sign(self):
         for name, node in nodes():
             if isinstance(node, ast.Constant) and isinstance(node.value, str):
@@ -104,6 +146,39 @@ class Words(unittest.TestCase):
             self.assertNotIsInstance(node, ast.Div, name)
             if isinstance(node, ast.Constant):
                 self.assertNotIsInstance(node.value, (float, complex), name)
+
+
+class Classes(unittest.TestCase):
+    def test_no_name_is_a_method_and_an_attribute(self):
+        decorated, plain, stored = [], [], []
+        for name, node in nodes():
+            if isinstance(node, ast.ClassDef):
+                methods = [row for row in node.body if isinstance(row, ast.FunctionDef)]
+                names = [row.name for row in methods]
+                attributes = {row.attr for row in ast.walk(node) if isinstance(row, ast.Attribute)
+                              and isinstance(row.ctx, ast.Store)}
+                self.assertEqual(len(names), len(set(names)), name)
+                self.assertFalse(attributes & set(names), name)
+                self.assertFalse(attributes & set(METHODS) - {"index"}, name)
+                stored += attributes
+                decorated += [row.name for row in methods if row.decorator_list]
+                plain += [row.name for row in methods if not row.decorator_list]
+        self.assertFalse(set(decorated) & set(plain + stored + METHODS))
+
+    def test_attributes_that_are_read_are_assigned(self):
+        own = {node.name for _, node in nodes() if isinstance(node, ast.FunctionDef)}
+        stored = {node.attr for _, node in nodes() if isinstance(node, ast.Attribute)
+                  and isinstance(node.ctx, ast.Store)}
+        for name, node in nodes():
+            if isinstance(node, ast.Attribute) and isinstance(node.ctx, ast.Load):
+                self.assertIn(node.attr, own | stored | set(METHODS), (name, node.lineno))
+
+    def test_sets_stand_only_where_they_may(self):
+        for name, node in nodes():
+            made = isinstance(node, ast.Call) and isinstance(node.func, ast.Name) and node.func.id in ("sorted", "len")
+            sets = [row for row in ast.iter_child_nodes(node) if isinstance(row, ast.SetComp) or (
+                isinstance(row, ast.Call) and isinstance(row.func, ast.Name) and row.func.id == "set")]
+            self.assertTrue(made or not sets, (name, getattr(node, "lineno", 0)))
 
 
 class Interface(unittest.TestCase):

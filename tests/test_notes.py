@@ -1,10 +1,12 @@
-"""How a note is read: point [7]."""
+"""How a note is read and written: point [7]."""
 
+import itertools
 import unittest
 
 from lastkind.errors import BadNote, KindError
-from lastkind.notes import read_text
+from lastkind.notes import read_text, write_text
 from lastkind.texts import Text
+from oracle import made_text
 from values import OTHERS, line_of, note_of
 
 EXAMPLE = "pointer p\nread x int4 p+0\nwrite half2 p+4 -7\ntell x"
@@ -202,6 +204,164 @@ class Texts(unittest.TestCase):
             with self.assertRaises(BadNote) as caught:
                 read_text("\n".join(lines[:many] + ["wrong"] + lines[many:]))
             self.assertEqual(caught.exception.line, many)
+
+
+class Written(unittest.TestCase):
+    def check(self, text, note):
+        self.assertEqual(write_text(text), note)
+        self.assertIs(type(write_text(text)), str)
+        for read in (read_text, Text.read):
+            self.assertEqual(read(note), text)
+
+    def check_step(self, step, line):
+        """The line of one step, behind the head."""
+        before = Text.read(HEAD)
+        self.check(before.with_step(step), HEAD + "\n" + line)
+
+    def test_the_example(self):
+        steps = (("read", "x", "int4", "p", 0), ("write", "half2", "p", 4, -7), ("tell", "x"))
+        self.check(Text((), ("p",), steps), EXAMPLE)
+
+    def test_the_empty_text(self):
+        self.check(Text(), "")
+
+    def test_places_and_pointers(self):
+        self.check(Text((("a", "int4"),)), "place a int4")
+        self.check(Text((("b", "c1"), ("a", "int4"))), "place b c1\nplace a int4")
+        self.check(Text((), ("q", "p", "abcdefg8")), "pointer q\npointer p\npointer abcdefg8")
+        self.check(Text((("a", "abcdef3"),), ("p",)), "place a abcdef3\npointer p")
+
+    def test_each_word_of_a_step(self):
+        self.check_step(("read", "y", "half2", "q", 6), "read y half2 q+6")
+        self.check_step(("write", "half2", "a", 0, "x"), "write half2 a+0 x")
+        self.check_step(("write", "c1", "p", 7, 12), "write c1 p+7 12")
+        self.check_step(("copy", 8, "p", 0, "q", 0), "copy 8 p+0 q+0")
+        self.check_step(("copy", 1, "a", 3, "b", 7), "copy 1 a+3 b+7")
+        self.check_step(("blank", 2, "b", 5), "blank 2 b+5")
+        self.check_step(("tell", "x"), "tell x")
+
+    def test_all_together(self):
+        note = ("place a int4\nplace b half2\npointer p\npointer q\nread x int4 a+0\n"
+                "write half2 q+6 x\ncopy 3 p+5 b+0\nblank 8 p+0\ntell x")
+        self.check(Text(PLACES, POINTERS, STEPS), note)
+
+    def test_values(self):
+        most = "1234567890" * 4
+        for told in ["0", "1", "-1", "10", "-10", "9" * 40, "-" + "9" * 40, most, "-" + most,
+                     "1" + "0" * 39]:
+            self.check_step(("write", "int4", "p", 4, int(told)), f"write int4 p+4 {told}")
+
+    def test_twelve_steps(self):
+        self.check(Text((), ("p",), (("blank", 1, "p", 0),) * 12), "pointer p" + "\nblank 1 p+0" * 12)
+
+    def test_by_name(self):
+        self.assertEqual(write_text(text=Text((), ("p",))), "pointer p")
+
+    def test_the_text_does_not_change(self):
+        text = Text(PLACES, POINTERS, STEPS)
+        write_text(text)
+        self.assertEqual(text, Text(PLACES, POINTERS, STEPS))
+
+    def test_two_texts_have_one_note_only_if_they_are_equal(self):
+        texts = [made_text(seed, places=2, pointers=2, steps=3) for seed in range(300)]
+        texts += [Text(places, pointers) for places in [(), PLACES, PLACES[::-1], PLACES[:1]]
+                  for pointers in [(), ("p",), ("q", "p"), ("p", "q")]]
+        steps = [("write", "int4", "p", 0, value) for value in [0, 1, -1, 10, 100, "x"]]
+        steps += [("blank", many, name, at) for many in (1, 2) for name in "pq" for at in (0, 1)]
+        steps += [("copy", 1, one, here, other, there) for one, other in ["pq", "qp", "pp"]
+                  for here in (0, 1) for there in (0, 1)]
+        texts += [Text.read("pointer p\npointer q\nread x c1 p+0").with_step(step) for step in steps]
+        for one, other in itertools.combinations(texts, 2):
+            self.assertEqual(write_text(one) == write_text(other), one == other)
+
+    def test_made_texts_are_read_back(self):
+        for seed in range(300):
+            text = made_text(seed, places=2, pointers=2, steps=8)
+            self.check(text, note_of(text))
+
+
+class Changed(unittest.TestCase):
+    """Notes that were changed in one line: each is the note of the text that it gives, or none."""
+
+    NOTE = ("place a int4\nplace b half2\npointer p\npointer q\nread x int4 a+0\nwrite half2 q+6 x\n"
+            "write c1 p+7 -120\ncopy 3 p+5 b+0\nblank 8 p+0\ntell x")
+
+    def is_note(self, note):
+        try:
+            return note_of(read_text(note)) == note
+        except BadNote:
+            return False
+
+    def check(self, lines):
+        note = "\n".join(lines)
+        try:
+            self.assertEqual(write_text(read_text(note)), note)
+        except BadNote as error:
+            self.assertTrue(0 <= error.line < len(lines), note)
+            self.assertTrue(self.is_note("\n".join(lines[:error.line])), note)
+            self.assertFalse(error.line and self.is_note("\n".join(lines[:error.line + 1])), note)
+
+    def refused(self, lines, at):
+        with self.assertRaises(BadNote, msg=lines) as caught:
+            read_text("\n".join(lines))
+        self.assertEqual(caught.exception.line, at, lines)
+
+    def each_line(self):
+        lines = self.NOTE.split("\n")
+        for at in range(len(lines)):
+            yield lines[:at], lines[at], lines[at + 1:], at
+
+    def test_a_word_left_out(self):
+        for before, line, after, at in self.each_line():
+            words = line.split(" ")
+            for k in range(len(words)):
+                self.refused([*before, " ".join(words[:k] + words[k + 1:]), *after], at)
+
+    def test_a_word_put_in(self):
+        for before, line, after, at in self.each_line():
+            words = line.split(" ")
+            for k in range(len(words) + 1):
+                for word in ["a", "y", "int4", "0", "1", "p+0", "read", ""]:
+                    self.refused([*before, " ".join([*words[:k], word, *words[k:]]), *after], at)
+
+    def test_a_word_exchanged(self):
+        for before, line, after, _ in self.each_line():
+            words = line.split(" ")
+            for k in range(len(words)):
+                for word in ["a", "x", "y", "int4", "c1", "0", "1", "-1", "01", "p+0", "p+9", "y+0", "tell"]:
+                    self.check([*before, " ".join([*words[:k], word, *words[k + 1:]]), *after])
+
+    def test_spaces_and_other_signs(self):
+        for before, line, after, at in self.each_line():
+            self.refused([*before, " " + line, *after], at)
+            self.refused([*before, line + " ", *after], at)
+            self.refused([*before, "", line, *after], at)
+            for k in range(len(line)):
+                self.refused([*before, line[:k] + "  " + line[k + 1:], *after], at)
+                for sign in " -+0;":
+                    self.check([*before, line[:k] + sign + line[k:], *after])
+
+    def test_a_line_twice_left_out_or_exchanged_with_the_next(self):
+        lines = self.NOTE.split("\n")
+        for at in range(len(lines)):
+            self.check([*lines[:at], lines[at], *lines[at:]])
+            self.check([*lines[:at], *lines[at + 1:]])
+            self.check([*lines[:at], *lines[at:at + 2][::-1], *lines[at + 2:]])
+        for at in range(5):
+            self.refused([*lines[:at + 1], *lines[at:]], at + 1)
+
+    def test_an_empty_line_at_the_end(self):
+        lines = self.NOTE.split("\n")
+        self.refused([*lines, ""], len(lines))
+        self.refused([*lines, "", ""], len(lines))
+
+    def test_numbers(self):
+        lines = self.NOTE.split("\n")[:6]
+        for told in ["00", "01", "-0", "-01", "+1", "+0", "1" * 41, "-" + "1" * 41, "--1", "1-", "-"]:
+            self.refused([*lines, f"write c1 p+0 {told}"], 6)
+            self.refused([*lines, f"blank {told} p+0"], 6)
+            self.refused([*lines, f"blank 1 p+{told}"], 6)
+            self.refused([*lines, f"copy 1 p+0 q+{told}"], 6)
 
 
 if __name__ == "__main__":
