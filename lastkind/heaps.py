@@ -6,9 +6,14 @@ from lastkind.words import size_of
 
 def offsets_of(text):
     """The bytes of each name: a dict from the names to ascending lists of offsets."""
+    return offsets_in(text, text.steps)
+
+
+def offsets_in(text, steps):
+    """The bytes of each name of a text if these steps stand in the place of its own."""
     offsets = {name: {} for name in text.names()}
     spans = [(name, 0, size_of(kind)) for name, kind in text.places]
-    for step in text.steps:
+    for step in steps:
         spans.extend(spans_of(step))
     for name, first, many in spans:
         for offset in range(first, first + many):

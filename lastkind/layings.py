@@ -1,6 +1,6 @@
 """Layings: which names of a text touch, and where they point."""
 
-from lastkind.heaps import gaps_of, hangs_together, heaps_of, offsets_of
+from lastkind.heaps import gaps_of, hangs_together, heaps_of, offsets_in, offsets_of
 from lastkind.stepping import owners_of, plan_of, run_plan, spots_of
 from lastkind.words import is_whole
 
@@ -53,7 +53,12 @@ def lawful_runs(text):
 
 def all_layings(text):
     """The list of all layings of a text, in order."""
-    ways = spread(text.names(), text.pointers, gaps_of(offsets_of(text)))
+    return layings_over(text, text.steps)
+
+
+def layings_over(text, steps):
+    """The list of all layings, in order, of a text with these steps, perhaps too many for one text."""
+    ways = spread(text.names(), text.pointers, gaps_of(offsets_in(text, steps)))
     return sorted([tuple([way[name] for name in text.names()]) for way in ways], key=rank)
 
 

@@ -4,6 +4,7 @@ from lastkind.errors import NoLaying, NoStep
 from lastkind.heaps import offsets_of
 from lastkind.layings import is_laying
 from lastkind.memory import FIRST
+from lastkind.results import first_thing, load_told, told_values, worths_of
 from lastkind.stepping import owners_of, plan_of, run_plan, spots_of
 from lastkind.words import is_within
 
@@ -21,7 +22,7 @@ class Run:
         self._index = index
         self._reason = reason
         self._done = text.steps if index is None else text.steps[:index]
-        self._reads = {step[1]: k for k, step in enumerate(self._done) if step[0] == "read"}
+        self._worths = worths_of(self._done, memory)
         self._bytes = bytes_of(offsets_of(text), spots, laying)
 
     @property
@@ -44,38 +45,22 @@ class Run:
         if not is_within(index, 0, len(self._done) - 1) or self._done[index][0] != "read":
             raise NoStep(index)
         source = self._memory.sources[index]
-        if source == FIRST:
-            return ("first", self._memory.asks.earliest(index))
-        return ("write", source)
+        return first_thing(self._memory.asks, index) if source == FIRST else ("write", source)
 
     def told(self):
         """The list of the values that are told."""
-        return [self._worth(step[1]) for step in self._done if step[0] == "tell"]
+        return told_values(self._done, self._worths)
 
     def end(self):
         """What each byte of the names bears at the end: a dict from tuples (first, offset)."""
-        return {self._bytes[byte]: self._told_load(byte) for byte in sorted(self._bytes)}
+        return {self._bytes[byte]: self._load_at(byte) for byte in sorted(self._bytes)}
 
-    def _worth(self, told):
-        """The value that an integer or the name of a read stands for."""
-        if not isinstance(told, str):
-            return told
-        word, index = self.found(self._reads[told])
-        return (word, index) if word == "first" else self._worth(self._done[index][-1])
-
-    def _told_load(self, byte):
-        """What a byte bears, as it is told."""
-        load = self._memory.load_of([byte])[0]
-        if load is None:
-            return None
-        source, part = load
-        if source != FIRST:
-            return (self._memory.kinds[source], part, self._worth(self._done[source][-1]))
-        asked = self._memory.asks.place_at(part)
-        if asked is None:
-            return ("first", self._bytes[part])
-        kind, place, index = asked
-        return (kind, place, ("first", index))
+    def _load_at(self, byte):
+        """What the byte with this number bears, as it is told."""
+        load = load_told(self._memory, self._worths, self._memory.asks, byte)
+        if load is not None and load[0] == "first":
+            return ("first", self._bytes[load[1]])
+        return load
 
 
 def bytes_of(offsets, spots, laying):

@@ -38,11 +38,15 @@ def run_plan(plan, owners, spots):
     """Does the steps up to the first unlawful one: (memory, its index, reason), or None for both."""
     memory = Memory(owners)
     for index, (word, kind, spans) in enumerate(plan):
-        rows = [list(range(spots[name] + first, spots[name] + first + many)) for name, first, many in spans]
-        reason = do_step(memory, index, word, kind, rows)
+        reason = do_step(memory, index, word, kind, rows_of(spans, spots))
         if reason is not None:
             return memory, index, reason
     return memory, None, None
+
+
+def rows_of(spans, spots):
+    """The numbers of the bytes of each span, in lists."""
+    return [list(range(spots[name] + first, spots[name] + first + many)) for name, first, many in spans]
 
 
 def do_step(memory, index, word, kind, rows):

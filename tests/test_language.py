@@ -23,6 +23,10 @@ INTERFACE = {
     "layings": {"layings": [], "is_laying": []},
     "runs": {"Run": ["__init__", "lawful", "at", "reason", "found", "told", "end"]},
     "finds": {"finds": []},
+    "pairs": {"meets": [], "needs": [], "binding": []},
+    "orders": {"turned_pair": [], "turned": [], "number_of": [], "order_at": [], "count_orders": [], "orders": []},
+    "changes": {"may_change": [], "may_change_back": [], "changes": []},
+    "standing": {"stands": [], "forwarded": []},
 }
 
 # What the package takes of Python: its functions and errors, and the methods of its values.
@@ -124,10 +128,27 @@ class Words(unittest.TestCase):
                 if isinstance(node, ast.arg):
                     self.assertNotIn(node.arg, taken, (name, node.lineno))
 
-    def test_no_generators_and_no_floating_or_global_names(self):
-        barred = (ast.Yield, ast.YieldFrom, ast.GeneratorExp, ast.Global, ast.AsyncFunctionDef, ast.Await, ast.Set)
+    def test_no_generator_expressions_and_no_floating_or_global_names(self):
+        barred = (ast.GeneratorExp, ast.Global, ast.AsyncFunctionDef, ast.Await, ast.Set)
         for name, node in nodes():
             self.assertNotIsInstance(node, barred, (name, getattr(node, "lineno", 0)))
+
+    def test_the_one_generator_is_not_used_in_the_package(self):
+        found = [node.name for _, node in nodes() if isinstance(node, ast.FunctionDef)
+                 for row in ast.walk(node) if isinstance(row, (ast.Yield, ast.YieldFrom))]
+        self.assertEqual(found, ["orders"])
+        for name, node in nodes():
+            if isinstance(node, ast.Name):
+                self.assertNotEqual(node.id, "orders", name)
+            if isinstance(node, ast.ImportFrom):
+                self.assertNotIn("orders", [alias.name for alias in node.names], name)
+
+    def test_reversed_takes_lists_and_ranges(self):
+        for name, node in nodes():
+            if isinstance(node, ast.Call) and isinstance(node.func, ast.Name) and node.func.id == "reversed":
+                given = node.args[0]
+                self.assertIsInstance(given, ast.Call, (name, node.lineno))
+                self.assertIn(given.func.id, ("list", "tuple", "sorted", "range"), (name, node.lineno))
 
     def test_strings_contain_no_percent_sign(self):
         for name, node in nodes():

@@ -1,11 +1,17 @@
-"""Texts of twelve steps and four names: how many layings they have, and how long these take."""
+"""Texts of twelve steps and four names: how many layings they have, and how long the answers take."""
 
+import itertools
+import math
 import time
 import unittest
 
+from lastkind.changes import changes, may_change, may_change_back
 from lastkind.finds import finds
 from lastkind.layings import is_laying, layings
+from lastkind.orders import count_orders, number_of, order_at, orders, turned, turned_pair
+from lastkind.pairs import binding, meets
 from lastkind.runs import Run
+from lastkind.standing import forwarded, stands
 from lastkind.texts import Text
 
 # Far more than what is needed, so that a slow machine does not fail.
@@ -27,15 +33,18 @@ PLACES = "place a int4\nplace b int4\npointer p\npointer q\n" + "\n".join([
 FULL = 10095 + 4 * 337 + 3 * 15 * 15 + 6 * 15 + 1
 
 
-class Large(unittest.TestCase):
+class Timed(unittest.TestCase):
     def timed(self, what, work):
         begin = time.perf_counter()
         found = work()
         seconds = time.perf_counter() - begin
-        print(f"{what}: {len(found)} rows in {seconds:.2f} seconds")
+        told = f"{len(found)} rows" if hasattr(found, "__len__") else found
+        print(f"{what}: {told} in {seconds:.2f} seconds")
         self.assertLess(seconds, MOST_SECONDS)
         return found
 
+
+class Large(Timed):
     def check(self, word, note, many):
         text = Text.read(note)
         self.assertEqual((len(text), len(text.names())), (12, 4))
@@ -69,6 +78,72 @@ class Large(unittest.TestCase):
     def test_two_places(self):
         lawful, rows = self.check("two places", PLACES, 1 + 15 + 4 * 11 + 2 * 11 * 11 + 2 * 233)
         self.assertTrue(all(row[2] in ("always", "sometimes", "never") for row in rows))
+
+
+class Answers(Timed):
+    def check(self, word, note):
+        text = Text.read(note)
+        rows = self.timed(f"meets, {word}", lambda: meets(text))
+        for i, j, laying in rows:
+            self.assertIs(Run(text, laying).lawful, True)
+        bound = self.timed(f"binding, {word}", lambda: binding(text))
+        self.assertLessEqual({row[:2] for row in rows}, set(bound))
+        many = self.timed(f"right orders, {word}", lambda: count_orders(text))
+        last = self.timed(f"the last order, {word}", lambda: order_at(text, many - 1))
+        self.assertEqual(self.timed(f"its number, {word}", lambda: number_of(text, last)), many - 1)
+        again = self.timed(f"the turned text, {word}", lambda: turned(text, last))
+        moves = self.timed(f"its changes, {word}", lambda: changes(text, last))
+        self.assertEqual(len(moves), sum(j < i for i, j in itertools.combinations(last, 2)))
+        self.assertIsNone(self.timed(f"whether it stands, {word}", lambda: stands(text, again)))
+        other = self.timed(f"forwarded, {word}", lambda: forwarded(text))
+        self.assertIsNone(stands(text, other))
+        for k in range(11):
+            self.assertIs(may_change(text, k), (k, k + 1) not in bound)
+
+    def test_copies(self):
+        self.check("copies", COPIES)
+
+    def test_writes(self):
+        self.check("writes", WRITES)
+
+    def test_two_places(self):
+        self.check("two places", PLACES)
+
+
+class ManyOrders(Timed):
+    def check(self, text, many):
+        self.assertEqual(self.timed("many orders", lambda: count_orders(text)), many)
+        for number in (0, 1, many // 3, many - 2, many - 1):
+            order = self.timed(f"order {number}", lambda: order_at(text, number))
+            self.assertEqual(self.timed(f"number {number}", lambda: number_of(text, order)), number)
+            self.assertIsNone(turned_pair(text, order))
+        first = self.timed("the first orders", lambda: list(itertools.islice(orders(text), 3000)))
+        self.assertEqual(first, sorted(set(first)))
+        self.assertEqual([number_of(text, order) for order in first[:3]], [0, 1, 2])
+        self.assertEqual(order_at(text, 2999), first[-1])
+        self.assertEqual(len(changes(text, order)), sum(j < i for i, j in itertools.combinations(order, 2)))
+
+    def test_twelve_reads(self):
+        text = Text.read("pointer p\n" + "\n".join(f"read x{k} c1 p+{k % 8}" for k in range(12)))
+        self.check(text, math.factorial(12))
+        self.assertIs(may_change_back(text, 10), True)
+
+    def test_writes_behind_places(self):
+        rows = [f"write c1 {name}+{k} {k}" for name in "ab" for k in range(1, 7)]
+        self.check(Text.read("place a c1\nplace b d1\n" + "\n".join(rows)), math.factorial(12))
+
+    def test_reads_with_uses(self):
+        # A tell stands behind those before it and behind its read, which leaves 2k + 1 spots to the read k
+        # in front of it; the two reads that nothing uses stand anywhere.
+        rows = [f"read x{k} c1 p+{k}" for k in range(7)] + [f"tell x{k}" for k in range(5)]
+        self.check(Text.read("pointer p\n" + "\n".join(rows)), 1 * 3 * 5 * 7 * 9 * 11 * 12)
+
+    def test_two_names(self):
+        # Each write meets each read; so all reads stand in front, and the writes use different bytes.
+        rows = [f"read x{k} c1 p+{k}" for k in range(8)] + [f"write d1 q+{k} x{k}" for k in range(4)]
+        text = Text.read("pointer p\npointer q\n" + "\n".join(rows))
+        self.assertEqual(len(meets(text)), 32)
+        self.check(text, math.factorial(8) * math.factorial(4))
 
 
 if __name__ == "__main__":

@@ -6,17 +6,11 @@ import unittest
 from lastkind.errors import KindError, NoLaying, NoStep
 from lastkind.runs import Run
 from lastkind.texts import Text
-from values import OTHERS
+from values import OTHERS, text_of
 
 ONE = (None,)
 APART = (None, None)
 SAME = (None, ("p", 0))
-
-
-def text_of(head, *lines):
-    """A text: the pointers, or the places too, in one string, and the lines of the steps."""
-    rows = [f"place {word.replace('=', ' ')}" if "=" in word else f"pointer {word}" for word in head.split()]
-    return Text.read("\n".join([*rows, *lines]))
 
 
 class Checks(unittest.TestCase):

@@ -1,10 +1,18 @@
 """Values that are neither names nor kinds nor integers, and the notes of texts."""
 
+from lastkind.texts import Text
+
 # Neither strings nor integers, and no tuple that is a place or a step.
 OTHERS = [
     None, True, False, (), [], ("p",), ["p"], [1], (0,), ("tell", ("x",)), ([[]],), ((((),),),),
     1.5, {}, b"p",
 ]
+
+
+def text_of(head, *lines):
+    """A text: the pointers, or the places too, in one string, and the lines of the steps."""
+    rows = [f"place {word.replace('=', ' ')}" if "=" in word else f"pointer {word}" for word in head.split()]
+    return Text.read("\n".join([*rows, *lines]))
 
 
 def note_of(text):
