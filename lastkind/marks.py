@@ -1,6 +1,7 @@
 """Marks: sets of bytes as integers. The bit of a byte is 1 if the byte is in the set."""
 
 from lastkind.stepping import FAR
+from lastkind.steps import WRITING
 
 
 def mark_of(span, spots):
@@ -16,7 +17,7 @@ def marks_of(plan, spots):
         used = 0
         for span in spans:
             used = used | mark_of(span, spots)
-        written = mark_of(spans[0], spots) if word in ("write", "copy", "blank") else 0
+        written = mark_of(spans[0], spots) if word in WRITING else 0
         marks.append((used, written))
     return marks
 
@@ -24,3 +25,13 @@ def marks_of(plan, spots):
 def meeting(marks, pairs):
     """Those of these pairs of steps that use a common byte which one of them writes."""
     return [(i, j) for i, j in pairs if marks[i][0] & marks[j][1] or marks[i][1] & marks[j][0]]
+
+
+def without(mark, other):
+    """The mark of the bytes of the first mark that are not in the other one."""
+    return mark ^ (mark & other)
+
+
+def shifted(mark, many):
+    """The mark of the bytes that lie so many bytes behind these; in front of them if many is below 0."""
+    return mark << many if many >= 0 else mark >> -many

@@ -11,9 +11,7 @@ from lastkind.words import is_within
 
 def turned_pair(text, order):
     """The first binding pair that an order, any value, does not keep; None if it is right."""
-    check_order(text, order)
-    around = [(i, j) for i, j in pairs_of(text) if order.index(j) < order.index(i)]
-    wrong = binding_among(text, around)
+    wrong = binding_among(text, pairs_around(text, order))
     return wrong[0] if wrong else None
 
 
@@ -66,13 +64,14 @@ def orders(text):
         order = next_order(before, order)
 
 
-def check_order(text, order):
-    """NoOrder if any value is no order of the text."""
+def pairs_around(text, order):
+    """The sorted list of the pairs that an order, any value, does not keep; NoOrder if it is none."""
     last = len(text) - 1
     if not isinstance(order, tuple) or not all([is_within(k, 0, last) for k in order]):
         raise NoOrder(order)
     if len(order) != len(text) or len(set(order)) != len(order):
         raise NoOrder(order)
+    return [(i, j) for i, j in pairs_of(text) if order.index(j) < order.index(i)]
 
 
 def check_right(text, order):

@@ -5,6 +5,9 @@ from lastkind.words import is_kind, is_name, is_whole, is_within, size_of
 # The bytes that a step uses have offsets below this one.
 WIDTH = 8
 
+# The words of the steps that write bytes.
+WRITING = ("write", "copy", "blank")
+
 # What follows the word of a step, in the words of a note's line.
 # A byte is one word there and two parts of the step: a name and an offset.
 FORMS = {

@@ -150,7 +150,8 @@ class Changes(unittest.TestCase):
 
     def test_no_order_then_turned(self):
         text = text_of("p", "blank 1 p+0", "blank 1 p+0", "read x c1 p+4")
-        for order in [(), (1, 0), (1, 0, 1), (1, 0, 3), (True, False, 2), [0, 1, 2], (0, 1, 2, 3), None, "012", 0, text]:
+        for order in [(), (1, 0), (1, 0, 1), (1, 0, 3), (True, False, 2), [0, 1, 2], (0, 1, 2, 3), None, "012", 0,
+                      text]:
             with self.assertRaises(NoOrder) as caught:
                 changes(text, order)
             self.assertIs(caught.exception.order, order)

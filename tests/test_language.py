@@ -27,6 +27,10 @@ INTERFACE = {
     "orders": {"turned_pair": [], "turned": [], "number_of": [], "order_at": [], "count_orders": [], "orders": []},
     "changes": {"may_change": [], "may_change_back": [], "changes": []},
     "standing": {"stands": [], "forwarded": []},
+    "unseen": {"tied": [], "drifts": [], "dead": [], "shortened": []},
+    "loops": {"Loop": ["__init__", "__len__"], "lawful_rounds": [], "apart": [], "nearest": [], "ahead": []},
+    "papers": {"paper": [], "holds": []},
+    "desk": {"Desk": ["__init__", "text", "say"]},
 }
 
 # What the package takes of Python: its functions and errors, and the methods of its values.

@@ -9,10 +9,12 @@ from lastkind.changes import changes, may_change, may_change_back
 from lastkind.finds import finds
 from lastkind.layings import is_laying, layings
 from lastkind.orders import count_orders, number_of, order_at, orders, turned, turned_pair
-from lastkind.pairs import binding, meets
+from lastkind.pairs import binding, meets, needs
+from lastkind.papers import holds, paper
 from lastkind.runs import Run
 from lastkind.standing import forwarded, stands
 from lastkind.texts import Text
+from lastkind.unseen import dead, drifts, shortened, tied
 
 # Far more than what is needed, so that a slow machine does not fail.
 MOST_SECONDS = 60
@@ -99,6 +101,21 @@ class Answers(Timed):
         self.assertIsNone(stands(text, other))
         for k in range(11):
             self.assertIs(may_change(text, k), (k, k + 1) not in bound)
+        self.check_unseen(word, text, {row[:2]: row[2] for row in rows})
+
+    def check_unseen(self, word, text, met):
+        ties = self.timed(f"tied, {word}", lambda: tied(text))
+        self.assertLessEqual(set(ties), set(met))
+        self.timed(f"dead, {word}", lambda: dead(text))
+        short = self.timed(f"shortened, {word}", lambda: shortened(text))
+        self.assertIsNone(stands(text, short))
+        wanted = all(i < j for i, j in ties + needs(text))
+        self.assertIs(self.timed(f"drifts, {word}", lambda: drifts(text, tuple(range(12)))), wanted)
+        for i, j in [(0, 1), (0, 11), (4, 9)]:
+            found = self.timed(f"paper, {word}", lambda: paper(text, i, j))
+            self.assertEqual(found[0] == "meets", (i, j) in met)
+            self.assertEqual(found[1], met.get((i, j), found[1]))
+            self.assertIs(self.timed(f"holds, {word}", lambda: holds(text, i, j, found)), True)
 
     def test_copies(self):
         self.check("copies", COPIES)
@@ -108,6 +125,15 @@ class Answers(Timed):
 
     def test_two_places(self):
         self.check("two places", PLACES)
+
+    def test_many_dead_steps(self):
+        names = "pqr" * 3
+        lines = [f"blank 8 {name}+0" for name in names] + ["write c1 a+0 1"]
+        text = Text.read(HEAD + "\n".join(lines))
+        self.assertEqual(self.timed("dead, many", lambda: dead(text)), [0, 1, 2, 3, 4, 5])
+        short = self.timed("shortened, many", lambda: shortened(text))
+        self.assertEqual(short.steps, text.steps[6:])
+        self.assertIsNone(stands(text, short))
 
 
 class ManyOrders(Timed):

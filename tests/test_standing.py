@@ -3,7 +3,6 @@
 import random
 import unittest
 
-import oracle
 import trying
 from lastkind.errors import BadText
 from lastkind.finds import finds
@@ -276,8 +275,8 @@ class Trials(unittest.TestCase):
             swapped[k], swapped[m] = swapped[m], swapped[k]
             yield tuple(swapped)
             name = dice.choice(text.names())
-            for step in [("read", "extra", "half2", name, 0), ("write", "c1", name, 0, 7), ("copy", 2, name, 0, name, 1),
-                         ("copy", 1, name, 1, name, 1), ("blank", 1, name, 0), ("read", "extra", "c1", name, 0)]:
+            for step in [("read", "extra", "half2", name, 0), ("write", "c1", name, 0, 7),
+                         ("copy", 2, name, 0, name, 1), ("copy", 1, name, 1, name, 1), ("blank", 1, name, 0), ("read", "extra", "c1", name, 0)]:
                 yield steps[:k] + (step,) + steps[k:]
             if steps[k][0] == "copy":
                 kind = f"half{steps[k][1]}"

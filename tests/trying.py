@@ -5,6 +5,7 @@ import types
 
 import oracle
 from lastkind.layings import layings
+from lastkind.texts import Text
 
 
 def lawful(text):
@@ -148,3 +149,106 @@ def stands(text, other):
         if word:
             return (laying, word)
     return None
+
+
+class Sights:
+    """What is seen under one lawful laying: the words of [20], byte by byte."""
+
+    def __init__(self, text, laying):
+        caller = oracle.Caller(text, laying)
+        self.rows = touched(text, laying)
+        self.blocks = {byte for _, block in caller.blocks.values() for byte in block}
+        self.words = [step[0] for step in text.steps]
+        self.bytes = {byte for up, down in self.rows for byte in up + down}
+
+    def sees(self, k, byte):
+        up, down = self.rows[k]
+        if byte not in up:
+            return False
+        if self.words[k] == "read" or set(down) & self.blocks:
+            return True
+        return any(self.is_seen(target, k) for target, source in zip(down, up) if source == byte)
+
+    def is_seen(self, byte, k):
+        """Whether what the step k lays into this byte is seen."""
+        for later in range(k + 1, len(self.rows)):
+            if self.sees(later, byte):
+                return True
+            if byte in self.rows[later][1]:
+                return False
+        return True
+
+    def tied(self, i, j, byte):
+        writes = [byte in down for _, down in self.rows]
+        sees = [self.sees(k, byte) for k in range(len(self.rows))]
+        if sees[i] and writes[j] or writes[i] and sees[j]:
+            return True
+        if not (writes[i] and writes[j]) or any(sees[i + 1:j]):
+            return False
+        after = [k for k in range(j + 1, len(self.rows)) if sees[k]] + [len(self.rows)]
+        return not any(writes[j + 1:after[0]])
+
+
+def tied(text):
+    found = set()
+    for laying in lawful(text):
+        sights = Sights(text, laying)
+        for i, j in itertools.combinations(range(len(text)), 2):
+            if any(sights.tied(i, j, byte) for byte in sights.bytes):
+                found.add((i, j))
+    return sorted(found)
+
+
+def dead(text):
+    found = [k for k, step in enumerate(text.steps) if step[0] in ("write", "copy", "blank")]
+    for laying in lawful(text):
+        sights = Sights(text, laying)
+        found = [k for k in found if not any(sights.is_seen(byte, k) for byte in sights.rows[k][1])]
+    return found
+
+
+def shortened(text):
+    while dead(text):
+        last = dead(text)[-1]
+        text = Text(text.places, text.pointers, text.steps[:last] + text.steps[last + 1:])
+    return text
+
+
+def looked_at(sights, order):
+    """In each byte that a step sees in the text, and in each byte at the end: which step laid there."""
+    laid, found = {}, {}
+    for k in order:
+        up, down = sights.rows[k]
+        found.update({(k, byte): laid.get(byte) for byte in set(up) if sights.sees(k, byte)})
+        laid.update({byte: k for byte in down})
+    return found, laid
+
+
+def reached(text, keep_needed):
+    """The orders that are reached by changes of neighbours that nobody sees, and that keep each needed pair.
+
+    If keep_needed is True, each order on the way keeps these, too.
+    """
+    sights = [Sights(text, laying) for laying in lawful(text)]
+    needed = needs(text)
+
+    def keeps(order):
+        return all(order.index(i) < order.index(j) for i, j in needed)
+
+    views = {}
+
+    def view(order):
+        if order not in views:
+            views[order] = [looked_at(sight, order) for sight in sights]
+        return views[order]
+
+    begin = tuple(range(len(text)))
+    found, left = {begin}, [begin]
+    while left:
+        order = left.pop()
+        for k in range(len(order) - 1):
+            other = (*order[:k], order[k + 1], order[k], *order[k + 2:])
+            if other not in found and view(other) == view(order) and (keeps(other) or not keep_needed):
+                found.add(other)
+                left.append(other)
+    return {order for order in found if keeps(order)}
