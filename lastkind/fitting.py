@@ -43,6 +43,17 @@ def step_fits(places, pointers, steps, step):
     return spans_fit(names, step) and values_fit(names, reads_of(steps), step)
 
 
+def first_misfit(places, pointers, steps):
+    """The index of the first of these entries, any values, that may not stand there; None if all may.
+
+    What stands behind it is not looked at: only steps that fit have names.
+    """
+    for at, step in enumerate(steps):
+        if not step_fits(places, pointers, steps[:at], step):
+            return at
+    return None
+
+
 def spans_fit(names, step):
     """Whether a step uses only bytes of these names, and none with an offset that is too large."""
     return all([name in names and first + many <= WIDTH for name, first, many in spans_of(step)])

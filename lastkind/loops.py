@@ -1,7 +1,7 @@
 """Loops: rows of reads and writes that are done again and again, through pointers that move on."""
 
 from lastkind.errors import BadLoop, NoStep
-from lastkind.fitting import pointer_fits, step_fits
+from lastkind.fitting import first_misfit, pointer_fits
 from lastkind.memory import Memory
 from lastkind.stepping import do_step, plan_of, rows_of
 from lastkind.steps import WIDTH
@@ -87,7 +87,7 @@ def are_steps(pointers, thing):
     """Whether any value is the steps of a round through these pointers."""
     if not isinstance(thing, tuple) or not 1 <= len(thing) <= MOST_STEPS:
         return False
-    if not all([step_fits((), pointers, thing[:at], step) for at, step in enumerate(thing)]):
+    if first_misfit((), pointers, thing) is not None:
         return False
     return all([step[0] in ("read", "write") for step in thing])
 

@@ -2,7 +2,7 @@
 
 from lastkind.errors import BadText, NoStep
 from lastkind.fitting import MOST_NAMES, MOST_PLACES, MOST_POINTERS, MOST_STEPS
-from lastkind.fitting import names_of, place_fits, pointer_fits, reads_of, step_fits
+from lastkind.fitting import first_misfit, names_of, place_fits, pointer_fits, reads_of, step_fits
 from lastkind.reading import parts_of
 from lastkind.words import is_within
 
@@ -78,6 +78,6 @@ def check_steps(places, pointers, steps):
     """BadText if any value is not the steps of a text with these places and pointers."""
     if not isinstance(steps, tuple) or len(steps) > MOST_STEPS:
         raise BadText("steps", None)
-    for at, step in enumerate(steps):
-        if not step_fits(places, pointers, steps[:at], step):
-            raise BadText("steps", at)
+    at = first_misfit(places, pointers, steps)
+    if at is not None:
+        raise BadText("steps", at)

@@ -4,7 +4,7 @@ import random
 import time
 import unittest
 
-from lastkind.errors import BadLoop, NoStep
+from lastkind.errors import BadLoop, BadText, NoStep
 from lastkind.loops import Loop, ahead, apart, lawful_rounds, nearest
 from lastkind.runs import Run
 from lastkind.texts import Text
@@ -154,6 +154,56 @@ class Made(unittest.TestCase):
             for other in self.PARTS[k + 1:]:
                 for thing, another in zip(self.WRONG[part], self.WRONG[other]):
                     self.refused(part, {**self.GOOD, part: thing, other: another})
+
+    # Values that are no steps, tuples that begin as steps do among them.
+    NO_STEPS = OTHERS + [0, 9, "", "p", (("p",),), ("read",), ("read", "x"), ("write",), ("blank", 1),
+                         list(STEPS[0]), STEPS]
+
+    def test_a_wrong_step_with_others_around_it(self):
+        write = ("write", "i1", "rab1", 0, 3)
+        self.refused("steps", {"pointers": ("rab1",), "steps": (write, True, write, True), "step": 8, "standing": ()})
+        read, use = self.STEPS
+        loop = self.made(self.GOOD)
+        for odd in [*self.NO_STEPS, loop, Text((), ("p",), (read,)), ("tell", "x"), ("blank", 1, "p", 0)]:
+            for steps in [(odd, odd), (odd, read), (read, odd), (odd, read, use), (read, odd, use), (read, use, odd),
+                          (odd, read, use, use), (read, odd, use, use), (read, use, odd, use), (read, use, use, odd),
+                          (odd, read, odd, use), (read, odd, use, odd), (odd, odd, odd, odd), (odd,) * 5]:
+                self.refused("steps", {**self.GOOD, "steps": steps})
+                self.refused("steps", {**self.GOOD, "steps": steps, "step": 0, "standing": None})
+
+    def test_a_value_of_a_read_that_is_none(self):
+        # What comes behind a wrong step does not make up for it, nor does the wrong step give a name.
+        read, use = self.STEPS
+        for wrong in [("read", "x"), ("read", "x", "c1", "r", 0), ("read", "x", "c1", "p", 8),
+                      ("read", "x", "c0", "p", 0)]:
+            for steps in [(wrong, use), (wrong, read, use), (read, wrong, use), (wrong, use, read)]:
+                self.refused("steps", {**self.GOOD, "steps": steps})
+
+    def test_a_wrong_name_with_others_around_it(self):
+        loop = self.made(self.GOOD)
+        for odd in [thing for thing in self.NO_STEPS if thing != "p"] + [loop, "P", "x y", "abcdefghi"]:
+            for names in [(odd, "p"), ("p", odd), (odd, odd), (odd, "p", "q"), ("p", odd, "q")]:
+                self.refused("pointers", {**self.GOOD, "pointers": names})
+                self.refused("pointers", {**self.GOOD, "pointers": names, "steps": (odd, odd), "standing": names})
+                self.refused("standing", {**self.GOOD, "standing": names})
+
+    def test_steps_are_taken_as_texts_take_them(self):
+        read, use = self.STEPS
+        rows = [read, use, ("read", "y", "half2", "q", 6), ("write", "half2", "p", 7, 1), ("write", "c1", "p", 0, "y"),
+                ("tell", "x"), ("read", "x"), None]
+        taken = 0
+        for steps in [(one, two, three) for one in rows for two in rows for three in rows]:
+            try:
+                Text((), ("p", "q"), steps)
+                good = all(step[0] in ("read", "write") for step in steps)
+            except BadText:
+                good = False
+            if good:
+                self.assertEqual(self.made({**self.GOOD, "steps": steps}).steps, steps)
+                taken += 1
+            else:
+                self.refused("steps", {**self.GOOD, "steps": steps})
+        self.assertEqual(taken, 8)
 
     def test_steps_of_another_pointer(self):
         self.refused("steps", {**self.GOOD, "pointers": ("p",)})
